@@ -1,0 +1,1 @@
+"""Stone bridges judged for every row of carts."""

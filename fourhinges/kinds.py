@@ -1,0 +1,11 @@
+"""What kind of thing was passed in."""
+
+
+def is_number(thing):
+    """Say whether a thing is a whole number of any size."""
+    return isinstance(thing, int) and not isinstance(thing, bool)
+
+
+def is_row(thing, least, most):
+    """Say whether a thing is a list or tuple of so many things."""
+    return isinstance(thing, (list, tuple)) and least <= len(thing) <= most

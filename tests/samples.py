@@ -1,0 +1,58 @@
+"""Things that several tests use."""
+
+import random
+
+from fourhinges.bridge import Bridge
+from fourhinges.forces import Force
+from fourhinges.loads import Load
+
+EJ = (((0, -1), (0, 1)), ((8, 7), (8, 9)), ((16, 7), (16, 9)), ((24, -1), (24, 1)))
+E = Bridge(EJ, Load((Force.hanging(1, 4), Force.hanging(1, 12), Force.hanging(1, 20))))
+
+# All corners in one line.
+F = Bridge((((1, 0), (0, 0)), ((2, 0), (3, 0))))
+
+# One stone without any mechanism.
+WALL = Bridge((((0, 0), (0, 2)), ((8, 0), (8, 2))))
+
+HUGE = 10 ** 40 + 7
+
+# Nothing of this is a whole number.
+NO_WHOLE = (True, False, None, "1", "", 1.0, (1,), [1], (), [], {}, b"1")
+
+
+def misses(count):
+    """Things that are none of the numbers 0 to count - 1."""
+    return (-1, count, count + 1, -count, HUGE, slice(0, 1), slice(None)) + NO_WHOLE
+
+
+def kinds_of(force):
+    return (force.across, force.up, force.moment)
+
+
+def numbers_of(load):
+    return [kinds_of(force) for force in load]
+
+
+def random_force(rng, size=9):
+    return Force(*[rng.randint(-size, size) for _ in range(3)])
+
+
+def random_load(rng, stones, size=9):
+    return Load([random_force(rng, size) for _ in range(stones)])
+
+
+def random_bridge(rng, stones, size=4):
+    """A bridge on a small grid, so that shared corners and corners in line are common."""
+    joints = []
+    while len(joints) < stones + 1:
+        inner = (rng.randint(-size, size), rng.randint(-size, size))
+        outer = (rng.randint(-size, size), rng.randint(-size, size))
+        if inner != outer:
+            joints.append((inner, outer))
+    return Bridge(joints, random_load(rng, stones))
+
+
+def random_bridges(seed, count, most_stones=5, size=4):
+    rng = random.Random(seed)
+    return [random_bridge(rng, rng.randint(1, most_stones), size) for _ in range(count)]

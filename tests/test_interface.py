@@ -1,0 +1,75 @@
+"""Every name of the interface is defined in its own file, with its own arguments."""
+
+import ast
+import pathlib
+import unittest
+
+PACKAGE = pathlib.Path(__file__).resolve().parent.parent / "fourhinges"
+
+# For each file its functions, and its classes with their methods; a star marks a generator.
+INTERFACE = {
+    "ratios": {
+        "is_whole": "thing, low, high", "ratio": "top, bottom", "compare_ratios": "one, other",
+        "ratio_sum": "one, other", "ratio_product": "one, other",
+    },
+    "forces": {
+        "Force": {
+            "__init__": "across, up, moment", "none": "", "hanging": "weight, x", "acting": "across, up, point",
+            "about": "point", "is_none": "", "__add__": "other", "__sub__": "other", "__neg__": "",
+            "__mul__": "other", "__eq__": "other",
+        },
+    },
+    "loads": {
+        "Load": {
+            "__init__": "forces", "none": "stones", "single": "stones, stone, force", "before": "joint",
+            "__getitem__": "at", "__len__": "", "__iter__": "", "__add__": "other", "__sub__": "other",
+            "__neg__": "", "__mul__": "other", "__eq__": "other",
+        },
+    },
+    "rings": {
+        "is_point": "thing", "ring_force": "ring, density", "check_ring": "joints, stone, ring",
+        "cut_ring": "ring, one, other",
+    },
+    "bridge": {
+        "Bridge": {
+            "__init__": "joints, own=None", "of_rings": "joints, rings, densities", "point": "corner",
+            "total": "load=None", "with_own": "load", "moved": "across, up", "mirrored": "", "exchanged": "",
+            "scaled": "times", "between": "first, last", "cut": "stone, joint, left", "__eq__": "other",
+        },
+    },
+}
+
+
+def definitions(body):
+    return {item.name: item for item in body if isinstance(item, (ast.FunctionDef, ast.ClassDef))}
+
+
+def arguments_of(function, is_method):
+    names = [argument.arg for argument in function.args.args]
+    defaults = [ast.unparse(default) for default in function.args.defaults]
+    for back, default in enumerate(reversed(defaults), 1):
+        names[-back] = f"{names[-back]}={default}"
+    return ", ".join(names[1:] if is_method else names)
+
+
+def is_generator(function):
+    return any(isinstance(node, (ast.Yield, ast.YieldFrom)) for node in ast.walk(function))
+
+
+class InterfaceTest(unittest.TestCase):
+    def test_everything_is_defined_in_its_file(self):
+        for name, wanted in INTERFACE.items():
+            found = definitions(ast.parse((PACKAGE / f"{name}.py").read_text()).body)
+            for thing, arguments in wanted.items():
+                with self.subTest(f"{name}.{thing}"):
+                    self.check_thing(found[thing.lstrip("*")], thing, arguments)
+
+    def check_thing(self, found, thing, arguments):
+        if isinstance(arguments, str):
+            self.assertEqual(arguments_of(found, False), arguments)
+            self.assertEqual(is_generator(found), thing.startswith("*"))
+            return
+        methods = definitions(found.body)
+        for method, its_arguments in arguments.items():
+            with self.subTest(method):
+                self.assertEqual(arguments_of(methods[method], True), its_arguments)
