@@ -15,6 +15,13 @@ def side_of(corner):
     return 1 if corner % 2 == 0 else -1
 
 
+def are_corners(bridge, thing):
+    """Say whether a thing is a list or tuple of corners of the bridge without duplicates."""
+    last = bridge.corner_count - 1
+    return (is_row(thing, 0, bridge.corner_count) and all([is_whole(corner, 0, last) for corner in thing])
+            and len(set(thing)) == len(thing))
+
+
 def corner_moments(bridge, forces):
     """Return, for each corner, the moment about it of its joint's force; one force for each joint."""
     return [forces[corner // 2].about(bridge.point(corner)) for corner in range(bridge.corner_count)]

@@ -5,6 +5,8 @@ import random
 from fourhinges.bridge import Bridge
 from fourhinges.forces import Force
 from fourhinges.loads import Load
+from fourhinges.thrust import Thrust
+from fourhinges.weights import Weights
 
 EJ = (((0, -1), (0, 1)), ((8, 7), (8, 9)), ((16, 7), (16, 9)), ((24, -1), (24, 1)))
 E = Bridge(EJ, Load((Force.hanging(1, 4), Force.hanging(1, 12), Force.hanging(1, 20))))
@@ -51,6 +53,14 @@ def random_bridge(rng, stones, size=4):
         if inner != outer:
             joints.append((inner, outer))
     return Bridge(joints, random_load(rng, stones))
+
+
+def random_thrust(rng, size=9):
+    return Thrust(random_force(rng, size), rng.randint(1, 4))
+
+
+def random_weights(rng, bridge, most=5):
+    return Weights([rng.choice((0, rng.randint(0, most))) for _ in range(bridge.corner_count)])
 
 
 def random_bridges(seed, count, most_stones=5, size=4):

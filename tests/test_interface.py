@@ -37,6 +37,38 @@ INTERFACE = {
             "scaled": "times", "between": "first, last", "cut": "stone, joint, left", "__eq__": "other",
         },
     },
+    "thrust": {
+        "Thrust": {
+            "__init__": "force, parts=1", "about": "point", "__add__": "other", "__sub__": "other", "__neg__": "",
+            "__eq__": "other",
+        },
+        "push_at": "bridge, thrust, joint, load=None", "moment_at": "bridge, thrust, corner, load=None",
+        "passes": "bridge, thrust, joint, load=None", "first_barred": "bridge, thrust, load=None",
+        "touched": "bridge, thrust, load=None", "crossing": "bridge, thrust, joint, load=None",
+        "thrust_line": "bridge, thrust, load=None", "mixed": "one, other, share",
+    },
+    "through": {"through": "bridge, corners, load=None"},
+    "cords": {"cord_barred": "bridge, pull, load=None"},
+    "motions": {
+        "Motion": {
+            "__init__": "turn, across, up", "none": "", "turning": "point, turn=1", "at": "point",
+            "measure": "force", "measure_of": "thrust", "is_none": "", "__add__": "other", "__sub__": "other",
+            "__neg__": "", "__mul__": "other", "__eq__": "other",
+        },
+    },
+    "weights": {
+        "Weights": {
+            "__init__": "numbers", "hinges": "", "lowest": "", "__getitem__": "at", "__len__": "", "__iter__": "",
+            "__add__": "other", "__mul__": "other", "__eq__": "other",
+        },
+        "motion_of": "bridge, weights", "stone_motions": "bridge, weights",
+        "work": "bridge, weights, load=None", "extra_work": "bridge, weights, load",
+    },
+    "mechanisms": {
+        "*mechanisms": "bridge", "mechanism_on": "bridge, corners", "is_mechanism": "bridge, weights",
+        "heaviest_work": "bridge, load=None",
+    },
+    "parting": {"parted": "bridge, weights"},
 }
 
 
