@@ -6,6 +6,11 @@ def is_number(thing):
     return isinstance(thing, int) and not isinstance(thing, bool)
 
 
+def is_count(thing):
+    """Say whether a thing is a whole number of at least 0."""
+    return is_number(thing) and thing >= 0
+
+
 def is_row(thing, least, most):
     """Say whether a thing is a list or tuple of so many things."""
     return isinstance(thing, (list, tuple)) and least <= len(thing) <= most

@@ -1,22 +1,10 @@
 """Mechanisms: the least balanced weights of a bridge."""
 
 from fourhinges.bridge import are_corners, side_of
+from fourhinges.choices import ascending_sets
 from fourhinges.errors import BadCorners
 from fourhinges.rings import twice_area
 from fourhinges.weights import Weights, check_weights, corner_works, work_by_corners
-
-
-def _corner_sets(count):
-    """Return all sets of two to four corners, in the order of tuples."""
-    sets = []
-    for one in range(count):
-        for two in range(one + 1, count):
-            sets.append((one, two))
-            for three in range(two + 1, count):
-                sets.append((one, two, three))
-                for four in range(three + 1, count):
-                    sets.append((one, two, three, four))
-    return sets
 
 
 def _triangles(bridge, corners):
@@ -67,7 +55,7 @@ def _least_on(bridge, triangles, corners):
 def mechanisms(bridge):
     """Yield all mechanisms of a bridge, in the order of their hinges."""
     triangles = _triangles(bridge, list(range(bridge.corner_count)))
-    for corners in _corner_sets(bridge.corner_count):
+    for corners in ascending_sets(bridge.corner_count, 2, 4):
         found = _least_on(bridge, triangles, corners)
         if found is not None:
             yield found

@@ -4,17 +4,13 @@ from math import gcd
 
 from fourhinges.bridge import corner_moments, side_of
 from fourhinges.errors import BadWeights, NoCorner, OtherSize
-from fourhinges.kinds import is_number, is_row
+from fourhinges.kinds import is_count, is_row
 from fourhinges.loads import sums_before
 from fourhinges.motions import Motion
 from fourhinges.ratios import is_whole
 
 LEAST_CORNERS = 4
 MOST_CORNERS = 18
-
-
-def _is_weight(thing):
-    return is_number(thing) and thing >= 0
 
 
 def common_divisor(numbers):
@@ -31,7 +27,7 @@ class Weights:
     def __init__(self, numbers):
         if not is_row(numbers, LEAST_CORNERS, MOST_CORNERS) or len(numbers) % 2 != 0:
             raise BadWeights("count")
-        if not all([_is_weight(number) for number in numbers]):
+        if not all([is_count(number) for number in numbers]):
             raise BadWeights("number")
         self.numbers = tuple(numbers)
 

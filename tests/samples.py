@@ -66,3 +66,49 @@ def random_weights(rng, bridge, most=5):
 def random_bridges(seed, count, most_stones=5, size=4):
     rng = random.Random(seed)
     return [random_bridge(rng, rng.randint(1, most_stones), size) for _ in range(count)]
+
+
+def line_bridge(rng, stones, size=6):
+    """A bridge with all corners in one line."""
+    joints = []
+    while len(joints) < stones + 1:
+        inner, outer = rng.randint(-size, size), rng.randint(-size, size)
+        if inner != outer:
+            joints.append(((2 * inner, inner + 1), (2 * outer, outer + 1)))
+    return Bridge(joints, random_load(rng, stones))
+
+
+def passing_force(rng, joint, size=9):
+    """A force that passes a joint."""
+    inner, outer = joint
+    while True:
+        force = random_force(rng, size)
+        if force.about(inner) <= 0 <= force.about(outer):
+            return force
+
+
+def borne_load(rng, bridge, size=9):
+    """A load that is borne together with the own load, made from pushes that pass."""
+    pushes = [passing_force(rng, joint, size) for joint in bridge.joints]
+    return Load([after - before for before, after in zip(pushes, pushes[1:])]) - bridge.own
+
+
+def other_in_one(rng, load, size=30):
+    """A load that differs from another one in one force."""
+    return load + Load.single(len(load), rng.randrange(len(load)), random_force(rng, size))
+
+
+def small_bridges(seed, count):
+    """Bridges of one to three stones; some have all corners in one line."""
+    rng = random.Random(seed)
+    return [(line_bridge if at % 5 == 0 else random_bridge)(rng, rng.randint(1, 3)) for at in range(count)]
+
+
+def arch(stones, spread=40, rise=30, thick=6):
+    """An arch whose stones weigh 10 each."""
+    joints = []
+    for joint in range(stones + 1):
+        x = spread * joint
+        y = rise * joint * (stones - joint)
+        joints.append(((x, y), (x - thick * (stones - 2 * joint), y + 4 * thick)))
+    return Bridge(joints, Load([Force.hanging(10, spread * stone + spread // 2) for stone in range(stones)]))

@@ -4,8 +4,15 @@ import unittest
 
 from fourhinges.bridge import Bridge
 from fourhinges.forces import Force
+from fourhinges.greatest import Endless, greatest
 from fourhinges.loads import Load
 from fourhinges.mechanisms import mechanism_on, mechanisms
+from fourhinges.motions import Motion
+from fourhinges.needed import needed
+from fourhinges.palettes import factor_range, work_row
+from fourhinges.relief import NoRelief, Relief, relief
+from fourhinges.stands import bears, stands
+from fourhinges.supports import supports
 from fourhinges.through import through
 from fourhinges.thrust import Thrust, crossing, first_barred, touched
 from fourhinges.weights import work
@@ -37,3 +44,33 @@ class ExamplesTest(unittest.TestCase):
         self.assertEqual(weights.numbers, (1, 0, 0, 5, 7, 0, 0, 3))
         self.assertEqual(work(self.bridge, weights), -16)
         self.assertEqual(work(self.bridge, weights, Load.single(3, 0, Force.hanging(8, 4))), 16)
+
+    def test_part_4(self):
+        self.assertEqual(stands(self.bridge, Load.single(3, 0, Force.hanging(8, 4))).work, 16)
+        self.assertEqual(greatest(self.bridge, Motion(0, 1, 0)).amount, (4, 3))
+        self.assertEqual(greatest(self.bridge, Motion(0, -1, 0)).amount, (-4, 5))
+
+    def test_part_4_in_one_line(self):
+        bridge = Bridge((((1, 0), (0, 0)), ((2, 0), (3, 0))))
+        flat = list(mechanisms(bridge))
+        self.assertEqual((len(flat), flat[0].numbers, flat[1].numbers), (2, (3, 2, 0, 1), (0, 1, 3, 2)))
+        pairs = list(supports(bridge, Motion(0, 0, 1)))
+        self.assertEqual((len(pairs), pairs[0][0].numbers, pairs[0][1], pairs[1][0].numbers, pairs[1][1]),
+                         (2, (1, 0, 0, 1), 2, (0, 0, 1, 1), 1))
+        self.assertEqual(greatest(bridge, Motion(0, 0, 1)).amount, (0, 1))
+        self.assertIsInstance(greatest(bridge, Motion(0, 1, 0)), Endless)
+
+    def test_part_5(self):
+        first = Load.single(3, 0, Force.hanging(1, 4))
+        third = Load.single(3, 2, Force.hanging(1, 20))
+        weights = mechanism_on(self.bridge, (0, 3, 4, 7))
+        self.assertEqual(work_row(self.bridge, weights, (first, third)), (4, -12))
+        self.assertEqual(factor_range(self.bridge, first).high, (4, 1))
+        loads = (first * 8, first * 8 + third * 2, first * 11 + third * 2)
+        self.assertEqual(tuple(bears(self.bridge, load) for load in loads), (False, True, False))
+        middle = Load.single(3, 1, Force.hanging(1, 12))
+        kept = needed(self.bridge, (first, middle, third)).kept
+        self.assertEqual((len(kept), kept[0][0].hinges, kept[1][0].hinges), (2, (0, 3, 4, 7), (1, 2, 5, 6)))
+        heavy = self.bridge.with_own(self.bridge.own + first * 8)
+        self.assertIsInstance(relief(heavy, (third,), (1,)), NoRelief)
+        self.assertIsInstance(relief(heavy, (third,), (2,)), Relief)

@@ -69,6 +69,34 @@ INTERFACE = {
         "heaviest_work": "bridge, load=None",
     },
     "parting": {"parted": "bridge, weights"},
+    "supports": {"*supports": "bridge, motion"},
+    "stands": {
+        "Stands": {"__init__": "thrust"}, "Falls": {"__init__": "mechanism, work"},
+        "stands": "bridge, load=None", "bears": "bridge, load=None", "stand_fault": "bridge, answer, load=None",
+    },
+    "greatest": {
+        "Greatest": {"__init__": "amount, thrust, weights, parts"}, "Endless": {"__init__": "force"},
+        "greatest": "bridge, motion, load=None", "greatest_fault": "bridge, motion, answer, load=None",
+    },
+    "linear": {
+        "Implied": {"__init__": "amounts, parts"}, "Parted": {"__init__": "mix"},
+        "implied": "row, rows", "implied_fault": "row, rows, answer",
+    },
+    "palettes": {
+        "FactorRange": {"__init__": "low, high, low_by, high_by"}, "Excess": {"__init__": "mechanism, mix, work"},
+        "mix_load": "palette, mix", "wheel_palette": "bridge, borders", "work_row": "bridge, weights, palette",
+        "work_rows": "bridge, palette", "bears_mix": "bridge, palette, mix", "factor_range": "bridge, load",
+        "first_excess": "bridge, palette, lows, highs",
+    },
+    "needed": {
+        "Needed": {"__init__": "kept, dropped"}, "BearsAll": {"__init__": "papers"},
+        "PartedBy": {"__init__": "mechanism, mix"}, "needed": "bridge, palette",
+        "compare_bridges": "one, other, one_palette, other_palette",
+    },
+    "relief": {
+        "Relief": {"__init__": "mix, parts"}, "NoRelief": {"__init__": "shares"},
+        "relief": "bridge, palette, highs", "relief_fault": "bridge, palette, highs, answer",
+    },
 }
 
 
