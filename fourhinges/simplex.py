@@ -34,7 +34,7 @@ class Walk:
             return min(found, key=lambda at: self.leaves[at])
         return max(found, key=lambda at: rises[at])
 
-    def room(self, row):
+    def room_to(self, row):
         """Return how far the corner is from the bound of a row, times the divisor."""
         return self.bounds[row] * self.divisor - dot(self.rows[row], self.corner)
 
@@ -44,7 +44,7 @@ class Walk:
         for at, row in enumerate(self.rows):
             speed = dot(row, self.edges[edge])
             if speed > 0:
-                room = self.room(at)
+                room = self.room_to(at)
                 if best is None or room * best_speed < best_room * speed:
                     best, best_room, best_speed = at, room, speed
         return None if best is None else (best, best_room)

@@ -3,19 +3,24 @@
 import unittest
 
 from fourhinges.bridge import Bridge
+from fourhinges.carts import Cart
 from fourhinges.forces import Force
 from fourhinges.greatest import Endless, greatest
+from fourhinges.heaviest import heaviest
 from fourhinges.loads import Load
 from fourhinges.mechanisms import mechanism_on, mechanisms
 from fourhinges.motions import Motion
 from fourhinges.needed import needed
 from fourhinges.palettes import factor_range, work_row
 from fourhinges.relief import NoRelief, Relief, relief
+from fourhinges.road import Road
+from fourhinges.rules import Rule, row_beyond, row_fault
 from fourhinges.stands import bears, stands
 from fourhinges.supports import supports
 from fourhinges.through import through
 from fourhinges.thrust import Thrust, crossing, first_barred, touched
 from fourhinges.weights import work
+from fourhinges.workline import WorkLine
 
 
 class ExamplesTest(unittest.TestCase):
@@ -74,3 +79,16 @@ class ExamplesTest(unittest.TestCase):
         heavy = self.bridge.with_own(self.bridge.own + first * 8)
         self.assertIsInstance(relief(heavy, (third,), (1,)), NoRelief)
         self.assertIsInstance(relief(heavy, (third,), (2,)), Relief)
+
+    def test_parts_6_and_7(self):
+        rule = Rule((Cart("dray", ((0, 8),), 0),), ((0, "dray", 30, 0),))
+        road = Road((0, 8, 16, 24), (rule,))
+        weights = mechanism_on(self.bridge, (0, 3, 4, 7))
+        line = WorkLine(self.bridge, road, weights)
+        self.assertEqual((line(0), line(4), line(8), line(12), line(16), line(20), line(24)),
+                         (0, 4, 8, -8, -24, -12, 0))
+        self.assertEqual(row_fault(rule, (0, (("dray", 20), ("dray", -9)))), (1, "gap"))
+        self.assertEqual(road.stones_at(8), (0, 1))
+        self.assertIsNone(row_beyond(rule.spaced(1), rule))
+        self.assertEqual(len(row_beyond(rule, rule.spaced(1))[1]), 2)
+        self.assertEqual(heaviest(self.bridge, road, 0, weights).amount, 64)

@@ -114,6 +114,11 @@ class GreatestTest(unittest.TestCase):
         sleeve = Bridge((((0, 0), (0, 9)), ((5, 1), (6, 8)), ((11, -2), (12, 5))))
         self.assertFalse(self.check(sleeve, ACROSS))
 
+    def test_an_endless_measure_of_1(self):
+        unit = Bridge((((0, 0), (0, 1)), ((1, 0), (1, 1))))
+        self.assertFalse(self.check(unit, ACROSS))
+        self.assertEqual(greatest(unit, ACROSS).force.across, 1)
+
     def test_no_line_crosses(self):
         for motion in (ACROSS, -ACROSS, Motion(0, 0, 1), Motion(0, 0, -1), Motion(1, 0, 0), Motion(-1, 0, 0)):
             self.assertTrue(self.check(E, motion))

@@ -93,6 +93,41 @@ INTERFACE = {
         "PartedBy": {"__init__": "mechanism, mix"}, "needed": "bridge, palette",
         "compare_bridges": "one, other, one_palette, other_palette",
     },
+    "carts": {
+        "Cart": {
+            "__init__": "name, wheels, length", "total_weight": "", "scaled": "times", "weighted": "times",
+            "__eq__": "other",
+        },
+    },
+    "rules": {
+        "Rule": {
+            "__init__": "carts, steps, way=1", "reachable": "", "cart": "name", "step": "room, name", "only": "names",
+            "weighted": "times", "scaled": "times", "spaced": "extra", "turned": "", "__eq__": "other",
+        },
+        "row_fault": "rule, row", "row_beyond": "one, other",
+    },
+    "road": {
+        "Road": {
+            "__init__": "borders, rules", "names": "", "rule": "lane", "only": "names", "weighted": "times",
+            "spaced": "extra", "scaled": "times", "mirrored": "", "stones_at": "x", "__eq__": "other",
+        },
+        "*rows_up_to": "road, lane, most",
+    },
+    "scenes": {
+        "Scene": {"__init__": "rows, stones", "standing": "road, rows", "__eq__": "other"},
+        "scene_fault": "road, scene", "scene_load": "road, scene",
+    },
+    "workline": {
+        "WorkLine": {
+            "__init__": "bridge, road, weights", "__call__": "x", "best_stone": "x", "ends": "stone",
+            "cart_work": "cart, front, way",
+        },
+    },
+    "heaviest": {
+        "Heaviest": {"__init__": "amount, row, stones"}, "heaviest": "bridge, road, lane, weights",
+        "potentials": "bridge, road, lane, weights", "potentials_fault": "bridge, road, lane, weights, table",
+        "table_most": "table",
+    },
     "relief": {
         "Relief": {"__init__": "mix, parts"}, "NoRelief": {"__init__": "shares"},
         "relief": "bridge, palette, highs", "relief_fault": "bridge, palette, highs, answer",

@@ -187,6 +187,23 @@ class LanguageTest(unittest.TestCase):
                 for sign, right in zip(node.ops, node.comparators):
                     self.assertTrue(not isinstance(sign, (ast.Is, ast.IsNot)) or is_plain(right))
 
+    def test_l18_methods_and_attributes(self):
+        methods, attributes = set(), set()
+        for tree in self.trees.values():
+            for node in ast.walk(tree):
+                if isinstance(node, ast.ClassDef):
+                    methods.update(part.name for part in node.body if isinstance(part, ast.FunctionDef))
+                if isinstance(node, ast.Attribute) and isinstance(node.ctx, ast.Store):
+                    attributes.add(node.attr)
+        self.assertFalse(methods & attributes)
+
+    def test_l23_generators(self):
+        names = [function.name for tree in self.trees.values() for function in functions_of(tree)]
+        for tree in self.trees.values():
+            for function in functions_of(tree):
+                if any(isinstance(node, (ast.Yield, ast.YieldFrom)) for node in ast.walk(function)):
+                    self.assertEqual(names.count(function.name), 1)
+
     def test_helpers_are_defined_once(self):
         seen = {}
         for name, tree in self.trees.items():

@@ -187,6 +187,11 @@ class ImpliedFaultTest(unittest.TestCase):
         self.assertEqual(implied_fault(row, rows, Parted((0, 0, 0))), "row")
         self.assertEqual(implied_fault(row, rows, Parted((1, 1, 2))), "row")
 
+    def test_sums_of_1(self):
+        self.assertEqual(implied_fault((1,), ((1,),), Parted((1,))), "rows")
+        self.assertIsNone(implied_fault((1,), ((0,),), Parted((1,))))
+        self.assertEqual(implied_fault((1,), ((0,),), Implied((1,), 1)), "place")
+
     def test_parted_with_several_faults(self):
         row, rows = (-1, -1, -1), self.rows
         self.assertEqual(implied_fault(row, rows, Parted((-1, 5))), "count")

@@ -11,7 +11,7 @@ from fourhinges.mechanisms import mechanism_on, mechanisms
 from fourhinges.needed import compare_bridges, needed
 from fourhinges.palettes import (Excess, FactorRange, bears_mix, factor_range, first_excess, mix_load, wheel_palette,
                                  work_row, work_rows)
-from fourhinges.relief import Relief, relief, relief_fault
+from fourhinges.relief import NoRelief, Relief, relief, relief_fault
 from fourhinges.stands import Stands, bears, stands
 from fourhinges.weights import Weights, extra_work, work
 from tests.samples import (E, F, HUGE, NO_WHOLE, WALL, arch, borne_load, numbers_of, random_load, random_weights,
@@ -319,6 +319,38 @@ class FirstExcessTest(unittest.TestCase):
         answer = Excess(work=3, mix=(2,), mechanism=1)
         self.assertEqual((answer.mechanism, answer.mix, answer.work), (1, (2,), 3))
         self.assertEqual(Excess(1, (2,), 3).work, 3)
+
+
+class WorksOf1Test(unittest.TestCase):
+    """On F the first load works 1 and -1, and the second one works nothing."""
+
+    palette = (Load((Force(0, 0, -1),)), Load((Force(1, 0, 0),)))
+
+    def test_rows(self):
+        self.assertEqual(work_rows(F, self.palette), ((1, 0), (-1, 0)))
+
+    def test_bears_mix(self):
+        self.assertTrue(bears_mix(F, self.palette, (0, 7)))
+        self.assertFalse(bears_mix(F, self.palette, (1, 0)))
+
+    def test_factor_range(self):
+        self.assertIsNone(factor_range(F.with_own(self.palette[0]), self.palette[1]))
+        self.assertIsNone(factor_range(F, self.palette[1]).high)
+
+    def test_first_excess(self):
+        first = list(mechanisms(F))[0]
+        answer = first_excess(F, self.palette, (0, 2), (1, 5))
+        # Where the row is 0 the low is taken.
+        self.assertEqual((answer.mechanism, answer.mix, answer.work), (first, (1, 2), 1))
+        self.assertIsNone(first_excess(F.with_own(-self.palette[0]), self.palette, (1, 2), (1, 5)))
+
+    def test_relief_fault(self):
+        self.assertEqual(relief_fault(F, self.palette, (3, 3), Relief((1, 0), 1)), "mechanism")
+        self.assertIsNone(relief_fault(F, self.palette, (3, 3), Relief((0, 3), 1)))
+        fallen = F.with_own(self.palette[0])
+        self.assertIsNone(relief_fault(fallen, self.palette, (3, 3), NoRelief((1, 0))))
+        # A place in which the shares times the rows are above 0 adds nothing to the sum.
+        self.assertEqual(relief_fault(F, self.palette, (3, 3), NoRelief((1, 0))), "sum")
 
 
 class BearsTogetherTest(unittest.TestCase):
