@@ -156,6 +156,17 @@ def _followers(one, other, trail):
     return [_followed(one, other, trail, step) for step in one.steps if step[0] == trail.room]
 
 
+def _unlike(seen, trails):
+    """Return the trails that can go on as none of those seen can, and write down that they are seen."""
+    fresh = []
+    for trail in trails:
+        key = (trail.room, trail.others)
+        if key not in seen:
+            seen[key] = True
+            fresh.append(trail)
+    return fresh
+
+
 def row_beyond(one, other):
     """Return a shortest row of carts that the one rule allows and the other one does not, or None."""
     if one.way != other.way:
@@ -163,14 +174,9 @@ def row_beyond(one, other):
     seen = {}
     trails = [Trail(room, (), room, 0, other.reachable) for room in one.reachable]
     while trails:
-        longer = []
-        for trail in trails:
-            for following, is_allowed in _followers(one, other, trail):
-                if not is_allowed:
-                    return (following.start, following.carts)
-                key = (following.room, following.others)
-                if key not in seen:
-                    seen[key] = True
-                    longer.append(following)
-        trails = longer
+        followed = [pair for trail in trails for pair in _followers(one, other, trail)]
+        for trail, is_allowed in followed:
+            if not is_allowed:
+                return (trail.start, trail.carts)
+        trails = _unlike(seen, [trail for trail, _ in followed])
     return None

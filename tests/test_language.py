@@ -29,6 +29,9 @@ BARRED_WORDS = re.compile(
 BARRED_NAMES = set("register mro elements open input law version_info with_traceback add_note".split())
 BARRED_NODES = (
     ast.Global, ast.AsyncFunctionDef, ast.AsyncFor, ast.AsyncWith, ast.Await, ast.Import, ast.Div, ast.NamedExpr)
+WALKERS = ("enumerate", "zip", "reversed", "range")
+CHANGERS = ("append", "clear", "extend", "insert", "pop", "remove", "reverse", "setdefault", "update", "sort", "add",
+            "discard")
 LISTS_ONLY = ("any", "all", "min", "max", "sum", "sorted")
 
 
@@ -52,6 +55,58 @@ def functions_of(tree):
 
 def is_plain(node):
     return isinstance(node, ast.Constant) and (node.value is None or isinstance(node.value, bool))
+
+
+def names_in(node):
+    """The names and attributes that an expression may be: itself, what it is taken from, each choice."""
+    if isinstance(node, ast.Name):
+        return {node.id}
+    if isinstance(node, ast.Attribute):
+        return {node.attr}
+    if isinstance(node, (ast.Subscript, ast.Starred)):
+        return names_in(node.value)
+    if isinstance(node, ast.IfExp):
+        return names_in(node.body) | names_in(node.orelse)
+    if isinstance(node, ast.BoolOp):
+        return set().union(*[names_in(part) for part in node.values])
+    if isinstance(node, ast.Call) and isinstance(node.func, ast.Attribute):
+        return names_in(node.func.value) if node.func.attr in ("items", "keys", "values", "get", "setdefault") else set()
+    if isinstance(node, ast.Call) and isinstance(node.func, ast.Name):
+        return set().union(*[names_in(part) for part in node.args]) if node.func.id in WALKERS else set()
+    return set()
+
+
+def with_likes(function, names):
+    """The names, and all others that an assignment in the function makes the same."""
+    likes = []
+    for node in ast.walk(function):
+        if isinstance(node, ast.Assign):
+            for target in node.targets:
+                pairs = [(target, node.value)]
+                if isinstance(target, ast.Tuple) and isinstance(node.value, ast.Tuple):
+                    pairs = list(zip(target.elts, node.value.elts))
+                likes.extend(names_in(one) | names_in(other) for one, other in pairs
+                             if names_in(other) and not isinstance(other, ast.Subscript))
+    for _ in likes:
+        for like in likes:
+            if like & names:
+                names = names | like
+    return names
+
+
+def changed_names(part):
+    """The names and attributes that the statements of a loop change, not only bind."""
+    found = set()
+    for node in ast.walk(part):
+        if isinstance(node, ast.Call) and isinstance(node.func, ast.Attribute) and node.func.attr in CHANGERS:
+            found |= names_in(node.func.value)
+        if isinstance(node, ast.Call) and isinstance(node.func, ast.Name) and node.func.id.startswith("heap"):
+            found |= names_in(node.args[0])
+        if isinstance(node, (ast.Subscript, ast.Attribute)) and isinstance(node.ctx, (ast.Store, ast.Del)):
+            found |= names_in(node.value) if isinstance(node, ast.Subscript) else names_in(node)
+        if isinstance(node, ast.AugAssign):
+            found |= names_in(node.target)
+    return found
 
 
 def each_file(check):
@@ -203,6 +258,18 @@ class LanguageTest(unittest.TestCase):
             for function in functions_of(tree):
                 if any(isinstance(node, (ast.Yield, ast.YieldFrom)) for node in ast.walk(function)):
                     self.assertEqual(names.count(function.name), 1)
+
+    @each_file
+    def test_l23_loops_keep_what_they_walk(self, name, tree):
+        for function in functions_of(tree):
+            for node in ast.walk(function):
+                if isinstance(node, ast.For):
+                    walked = with_likes(function, names_in(node.iter))
+                    for part in node.body:
+                        self.assertFalse(walked & changed_names(part), f"{name} {node.lineno}")
+                for part in getattr(node, "generators", []):
+                    walked = with_likes(function, names_in(part.iter))
+                    self.assertFalse(walked & changed_names(node), f"{name} {node.lineno}")
 
     def test_helpers_are_defined_once(self):
         seen = {}
