@@ -32,19 +32,32 @@ def _is_passed(vectors, works, place, parts):
     return True
 
 
-def passing_thrust(bridge, works, hinges):
-    """Return a thrust that passes and touches these hinges, or None if there is none.
+def meeting_thrusts(vectors, works, hinges):
+    """Yield thrusts on which each vector measures at most minus its work, for a hinge exactly so much.
 
-    The works are those of the weight 1 at each corner; the motions about the hinges are independent.
+    The vectors begin with those of the corners; the vectors of the hinges are independent. If there are such
+    thrusts at all, some are found: those that measure exactly so much for as many independent vectors as there are.
     """
-    vectors = corner_vectors(bridge)
-    # If such thrusts exist, one of them touches as many independent corners as there are. Where all
-    # corners are in one line, a push along this line changes nothing, and the vector across fixes it.
+    # Where all vectors are in one plane, a push across to it changes nothing, and the vector across fixes it.
     spanning = completed(vectors)
     all_works = list(works) + [0] * (len(spanning) - len(vectors))
     for triple in ascending_sets(len(spanning), 3, 3):
         if all([hinge in triple for hinge in hinges]):
             place, parts = _meeting([spanning[at] for at in triple], [all_works[at] for at in triple])
             if parts > 0 and _is_passed(vectors, works, place, parts):
-                return Thrust(vector_force(place), parts)
+                yield Thrust(vector_force(place), parts)
+
+
+def meeting_thrust(vectors, works, hinges):
+    """Return the first of these thrusts, or None if there is none."""
+    for thrust in meeting_thrusts(vectors, works, hinges):
+        return thrust
     return None
+
+
+def passing_thrust(bridge, works, hinges):
+    """Return a thrust that passes and touches these hinges, or None if there is none.
+
+    The works are those of the weight 1 at each corner; the motions about the hinges are independent.
+    """
+    return meeting_thrust(corner_vectors(bridge), works, hinges)

@@ -1,6 +1,6 @@
 """Roads: the borders of the stones, and a rule for each lane."""
 
-from fourhinges.errors import BadRoad, NoLane
+from fourhinges.errors import BadRoad, NoLane, OtherSize
 from fourhinges.kinds import is_row
 from fourhinges.loads import MOST_STONES
 from fourhinges.ratios import is_whole
@@ -81,6 +81,12 @@ class Road:
 
     def __eq__(self, other):
         return isinstance(other, Road) and self.borders == other.borders and self.rules == other.rules
+
+
+def check_road(bridge, road):
+    """Raise OtherSize unless the road has as many stones as the bridge."""
+    if road.stones != bridge.stones:
+        raise OtherSize()
 
 
 def lane_ends(road, rule):

@@ -1,8 +1,9 @@
 """Work lines: how much a wheel works at each place of a road."""
 
 from fourhinges.carts import wheel_places
-from fourhinges.errors import NoStone, OtherSize
+from fourhinges.errors import NoStone
 from fourhinges.ratios import is_whole
+from fourhinges.road import check_road
 from fourhinges.weights import stone_motions
 
 
@@ -10,8 +11,7 @@ class WorkLine:
     """The work of a wheel of weight 1 at each place, for weights of the corners."""
 
     def __init__(self, bridge, road, weights):
-        if road.stones != bridge.stones:
-            raise OtherSize()
+        check_road(bridge, road)
         self._road = road
         self._motions = stone_motions(bridge, weights)
         # Beyond the borders a wheel stands on the ground and works nothing.

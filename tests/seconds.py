@@ -42,6 +42,24 @@ def can_be_met(demands):
     return True
 
 
+def without_equal(demands, equals):
+    """The demands that are left when some must be met exactly: each of these takes out one number."""
+    demands, equals = list(demands), list(equals)
+    while equals:
+        numbers, amount = equals.pop()
+        places = [place for place, number in enumerate(numbers) if number]
+        if not places:
+            demands.append((numbers, -abs(amount)))
+            continue
+
+        def without(demand):
+            share = Fraction(demand[0][places[0]]) / numbers[places[0]]
+            return ([n - share * m for n, m in zip(demand[0], numbers)], demand[1] - share * amount)
+
+        demands, equals = [without(one) for one in demands], [without(one) for one in equals]
+    return demands
+
+
 def is_borne(bridge, load=None):
     return can_be_met(corner_demands(bridge, load))
 

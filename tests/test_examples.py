@@ -4,9 +4,11 @@ import unittest
 
 from fourhinges.bridge import Bridge
 from fourhinges.carts import Cart
+from fourhinges.cracks import open_sets
 from fourhinges.forces import Force
 from fourhinges.greatest import Endless, greatest
 from fourhinges.heaviest import heaviest
+from fourhinges.limits import Limit, LimitedFalls, limited_stands
 from fourhinges.loads import Load
 from fourhinges.mechanisms import mechanism_on, mechanisms
 from fourhinges.motions import Motion
@@ -15,12 +17,16 @@ from fourhinges.palettes import factor_range, work_row
 from fourhinges.relief import NoRelief, Relief, relief
 from fourhinges.road import Road
 from fourhinges.rules import Rule, row_beyond, row_fault
+from fourhinges.scenes import scene_load
 from fourhinges.stands import bears, stands
 from fourhinges.supports import supports
+from fourhinges.sure import fixed_range
 from fourhinges.through import through
 from fourhinges.thrust import Thrust, crossing, first_barred, touched
+from fourhinges.traffic import factor, permits, verdict
 from fourhinges.weights import work
 from fourhinges.workline import WorkLine
+from fourhinges.yard import Yard, spans
 
 
 class ExamplesTest(unittest.TestCase):
@@ -92,3 +98,23 @@ class ExamplesTest(unittest.TestCase):
         self.assertIsNone(row_beyond(rule.spaced(1), rule))
         self.assertEqual(len(row_beyond(rule, rule.spaced(1))[1]), 2)
         self.assertEqual(heaviest(self.bridge, road, 0, weights).amount, 64)
+        answer = verdict(self.bridge, road)
+        self.assertEqual((answer.mechanism.hinges, answer.work), ((0, 3, 4, 7), 48))
+        self.assertEqual(work(self.bridge, answer.mechanism, scene_load(road, answer.scene)), 48)
+        self.assertEqual(factor(self.bridge, road), (1, 4))
+        self.assertEqual(permits(self.bridge, road), ((),))
+
+    def test_part_8(self):
+        across = Motion(0, 1, 0)
+        self.assertTrue(limited_stands(self.bridge, (Limit(across, 1),)).thrust.force.across >= 0)
+        self.assertIsInstance(limited_stands(self.bridge, (Limit(across, 0),)), LimitedFalls)
+        rule = Rule((Cart("dray", ((0, 8),), 0),), ((0, "dray", 30, 0),))
+        none = Road((0, 8, 16, 24), (rule.only(()),))
+        found = fixed_range(self.bridge, none, across)
+        self.assertEqual((found.low, found.high), ((4, 5), (4, 3)))
+        self.assertIs(fixed_range(self.bridge, none, across).fits((1, 1)), True)
+        self.assertEqual(open_sets(Bridge((((1, 0), (0, 0)), ((2, 0), (3, 0))))), ((0, 1, 2, 3),))
+
+    def test_part_9(self):
+        yard = Yard(self.bridge, (0, 8, 16, 24))
+        self.assertEqual(spans(yard, (2, 0, (0,))), ((1, 1, True, False),))

@@ -128,6 +128,31 @@ INTERFACE = {
         "potentials": "bridge, road, lane, weights", "potentials_fault": "bridge, road, lane, weights, table",
         "table_most": "table",
     },
+    "traffic": {
+        "Safe": {"__init__": "papers"}, "Unsafe": {"__init__": "mechanism, work, scene"},
+        "verdict": "bridge, road", "is_safe": "bridge, road", "factor": "bridge, road", "permits": "bridge, road",
+        "least_extra_gap": "bridge, road",
+    },
+    "trafficjudge": {"verdict_fault": "bridge, road, answer"},
+    "limits": {
+        "Limit": {"__init__": "motion, most", "__eq__": "other"},
+        "LimitedFalls": {"__init__": "weights, shares, work"}, "kept": "limits, thrust",
+        "*limited_mechanisms": "bridge, limits", "limited_stands": "bridge, limits, load=None",
+    },
+    "limitedtraffic": {
+        "LimitedSafe": {"__init__": "papers"}, "LimitedUnsafe": {"__init__": "weights, shares, work, scene"},
+        "limited_verdict": "bridge, road, limits", "limited_fault": "bridge, road, limits, answer",
+    },
+    "sure": {
+        "Sure": {"__init__": "amount, weights, parts, scene"},
+        "FixedRange": {"__init__": "low, high", "fits": "number", "is_empty": ""},
+        "sure": "bridge, road, motion", "fixed_range": "bridge, road, motion",
+    },
+    "cracks": {
+        "Following": {"__init__": "thrust, weights, parts, motions"}, "follow": "bridge, motion, load=None",
+        "open_together": "bridge, corners, load=None", "open_sets": "bridge, load=None",
+    },
+    "yard": {"Yard": {"__init__": "bridge, borders, hoist=None"}, "spans": "yard, stage"},
     "relief": {
         "Relief": {"__init__": "mix, parts"}, "NoRelief": {"__init__": "shares"},
         "relief": "bridge, palette, highs", "relief_fault": "bridge, palette, highs, answer",
