@@ -12,7 +12,8 @@ from fourhinges.stands import bears, stands
 from fourhinges.through import through
 from fourhinges.thrust import Thrust, first_barred, touched
 from fourhinges.weights import Weights, motion_of, stone_motions
-from tests.samples import (E, F, HUGE, WALL, arch, borne_load, misses, random_bridge, random_load, small_bridges)
+from tests.samples import (E, F, HUGE, WALL, arch, borne_load, misses, random_bridge, random_force, random_load,
+                           small_bridges)
 from tests.seconds import can_be_met, corner_demands, is_borne, without_equal
 from tests.test_limits import ACROSS, random_motion
 
@@ -110,6 +111,17 @@ def second_open(bridge, corners, load=None):
     return can_be_met(without_equal(demands, [demands[corner] for corner in corners]))
 
 
+def load_through(rng, bridge, point, joints):
+    """A borne load under which the pushes at these joints can go through a point."""
+    pushes = []
+    for at, (inner, outer) in enumerate(bridge.joints):
+        push = None
+        while push is None or not push.about(inner) <= 0 <= push.about(outer):
+            push = Force.acting(rng.randint(-9, 9), rng.randint(-9, 9), point) if at in joints else random_force(rng)
+        pushes.append(push)
+    return Load([after - before for before, after in zip(pushes, pushes[1:])]) - bridge.own
+
+
 class OpenTogetherTest(unittest.TestCase):
     def check(self, bridge, corners, load=None):
         thrust = open_together(bridge, corners, load)
@@ -141,13 +153,13 @@ class OpenTogetherTest(unittest.TestCase):
         kinds = []
         for _ in range(60):
             bridge = random_bridge(rng, rng.randint(1, 3), 1)
-            load = borne_load(rng, bridge)
             for one, other in itertools.combinations(range(bridge.corner_count), 2):
                 if bridge.point(one) == bridge.point(other):
-                    kinds.append(self.check(bridge, (one, other), load))
-                    self.check(bridge, [other, one], load)
-        self.assertGreater(kinds.count(True), 20)
-        self.assertGreater(kinds.count(False), 20)
+                    load = load_through(rng, bridge, bridge.point(one), (one // 2, other // 2))
+                    self.assertTrue(self.check(bridge, (one, other), load))
+                    kinds.append(self.check(bridge, [other, one], borne_load(rng, bridge)))
+        self.assertGreater(len(kinds), 20)
+        self.assertIn(False, kinds)
 
     def test_example_bridge(self):
         self.assertTrue(self.check(E, (0, 2, 4, 6)))
