@@ -5,7 +5,7 @@ from fourhinges.greatest import Endless, endless_force
 from fourhinges.ratios import compare_ratios, ratio
 from fourhinges.road import check_road
 from fourhinges.supports import supports
-from fourhinges.traffic import first_working
+from fourhinges.traffic import first_unsafe
 from fourhinges.weights import corner_works, work_by_corners
 from fourhinges.worst import Worst
 
@@ -41,9 +41,9 @@ class FixedRange:
 
 def _check_safe(bridge, road):
     check_road(bridge, road)
-    mechanism = first_working(bridge, road)
-    if mechanism is not None:
-        raise NotSafe(mechanism)
+    unsafe = first_unsafe(bridge, road)
+    if unsafe is not None:
+        raise NotSafe(unsafe.mechanism)
 
 
 def _sure(bridge, road, motion):

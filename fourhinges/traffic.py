@@ -39,18 +39,18 @@ def verdict(bridge, road):
     return Safe(tuple(papers))
 
 
-def first_working(bridge, road):
-    """Return the first mechanism that works above 0 under some scene of the road, or None."""
-    for mechanism, amount, _ in worst_works(bridge, road):
+def first_unsafe(bridge, road):
+    """Return the Unsafe of the first mechanism that works above 0 under some scene of the road, or None."""
+    for mechanism, amount, worst in worst_works(bridge, road):
         if amount > 0:
-            return mechanism
+            return Unsafe(mechanism, amount, worst.standing_scene())
     return None
 
 
 def is_safe(bridge, road):
     """Say whether the bridge bears every scene of the road."""
     check_road(bridge, road)
-    return first_working(bridge, road) is None
+    return first_unsafe(bridge, road) is None
 
 
 def factor(bridge, road):

@@ -3,27 +3,34 @@
 import unittest
 
 from fourhinges.bridge import Bridge
+from fourhinges.bridgetext import bridge_text, read_bridge, work_table
 from fourhinges.carts import Cart
+from fourhinges.changes import Ballast, changed
 from fourhinges.cracks import open_sets
+from fourhinges.errors import BadRow
 from fourhinges.forces import Force
 from fourhinges.greatest import Endless, greatest
 from fourhinges.heaviest import heaviest
 from fourhinges.limits import Limit, LimitedFalls, limited_stands
 from fourhinges.loads import Load
 from fourhinges.mechanisms import mechanism_on, mechanisms
+from fourhinges.mends import least_mends
 from fourhinges.motions import Motion
 from fourhinges.needed import needed
+from fourhinges.orders import ClosedLot, build_order
 from fourhinges.palettes import factor_range, work_row
 from fourhinges.relief import NoRelief, Relief, relief
 from fourhinges.road import Road
+from fourhinges.roadtext import road_text
 from fourhinges.rules import Rule, row_beyond, row_fault
 from fourhinges.scenes import scene_load
+from fourhinges.stages import stage_fall
 from fourhinges.stands import bears, stands
 from fourhinges.supports import supports
 from fourhinges.sure import fixed_range
 from fourhinges.through import through
 from fourhinges.thrust import Thrust, crossing, first_barred, touched
-from fourhinges.traffic import factor, permits, verdict
+from fourhinges.traffic import factor, is_safe, permits, verdict
 from fourhinges.weights import work
 from fourhinges.workline import WorkLine
 from fourhinges.yard import Yard, spans
@@ -118,3 +125,29 @@ class ExamplesTest(unittest.TestCase):
     def test_part_9(self):
         yard = Yard(self.bridge, (0, 8, 16, 24))
         self.assertEqual(spans(yard, (2, 0, (0,))), ((1, 1, True, False),))
+        self.assertIs(stage_fall(yard, (1, 0, ())) is None, False)
+        self.assertIs(stage_fall(yard, (1, 0, (0,))) is None, True)
+        self.assertIsInstance(build_order(yard, 0), ClosedLot)
+        self.assertEqual(build_order(yard, 0).stages, ((0, 0, ()),))
+
+    def test_part_10(self):
+        quiet = Road((0, 8, 16, 24), (Rule((Cart("dray", ((0, 8),), 0),), ()),))
+        heavy = self.bridge.with_own(self.bridge.own + Load.single(3, 0, Force.hanging(8, 4)))
+        pool = (Ballast(2, 20, 2), Ballast(0, 4, 3), Ballast(2, 20, 1))
+        mends = least_mends(heavy, quiet, pool)
+        self.assertEqual((len(mends), mends[0].indexes, mends[0].breaches[0][1].work), (1, (0,), 16))
+        two, road = changed(heavy, quiet, pool[:2])
+        self.assertIs(is_safe(two, road), False)
+        three, road = changed(heavy, quiet, pool)
+        self.assertIs(is_safe(three, road), True)
+
+    def test_part_11(self):
+        self.assertEqual(bridge_text(Bridge((((0, 0), (0, 2)), ((8, 0), (8, 2))))),
+                         "bridge 1\njoint 0 0 0 2\njoint 8 0 8 2\nown 0 0 0")
+        rule = Rule((Cart("dray", ((0, 8),), 0),), ((0, "dray", 30, 0),))
+        self.assertEqual(road_text(Road((0, 8, 16, 24), (rule,))),
+                         "road 0 8 16 24\nlane 1\ncart dray 0 0 8\nstep 0 dray 30 0")
+        self.assertEqual(work_table(self.bridge).split("\n")[3], "0,3,4,7                -16")
+        with self.assertRaises(BadRow) as caught:
+            read_bridge("bridge 1\njoint 0 0 0 2")
+        self.assertEqual((caught.exception.row, caught.exception.what), (3, "end"))

@@ -153,6 +153,35 @@ INTERFACE = {
         "open_together": "bridge, corners, load=None", "open_sets": "bridge, load=None",
     },
     "yard": {"Yard": {"__init__": "bridge, borders, hoist=None"}, "spans": "yard, stage"},
+    "stages": {
+        "StageFall": {"__init__": "first, last, weights, work, front, stones"}, "stage_fall": "yard, stage",
+        "stage_fall_fault": "yard, stage, fall", "*stage_steps": "yard, stage, most",
+    },
+    "orders": {
+        "Order": {"__init__": "steps"}, "ClosedLot": {"__init__": "stages"}, "build_order": "yard, most",
+        "order_fault": "yard, most, answer", "fewest_frames": "yard",
+    },
+    "changes": {
+        "Change": {"applied": "bridge, road", "__eq__": "other"},
+        "Ballast": {"__init__": "stone, x, weight", "applied": "bridge, road", "__eq__": "other"},
+        "Rod": {"__init__": "one, other, start, end, pull", "applied": "bridge, road", "__eq__": "other"},
+        "Shut": {"__init__": "name", "applied": "bridge, road", "__eq__": "other"},
+        "Spaced": {"__init__": "extra", "applied": "bridge, road", "__eq__": "other"},
+        "changed": "bridge, road, changes",
+    },
+    "mends": {
+        "Mend": {"__init__": "indexes, breaches"}, "least_mends": "bridge, road, pool",
+        "mends_fault": "bridge, road, pool, mends",
+    },
+    "book": {
+        "Book": {
+            "__init__": "bridge, road", "days": "", "put": "change", "take": "number", "now": "", "answer": "",
+            "close_day": "", "trial": "", "__iter__": "", "__len__": "",
+        },
+        "tried": "book, changes", "in_trial": "book, task",
+    },
+    "bridgetext": {"bridge_text": "bridge", "read_bridge": "text", "work_table": "bridge, load=None"},
+    "roadtext": {"road_text": "road", "read_road": "text"},
     "relief": {
         "Relief": {"__init__": "mix, parts"}, "NoRelief": {"__init__": "shares"},
         "relief": "bridge, palette, highs", "relief_fault": "bridge, palette, highs, answer",

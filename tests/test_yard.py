@@ -8,6 +8,7 @@ from fourhinges.errors import BadStage, BadYard
 from fourhinges.yard import Yard, spans
 from tests.roads import DRAY
 from tests.samples import E, NO_WHOLE, WALL, arch, misses, random_bridge
+from tests.yards import all_stages
 
 Y = Yard(E, (0, 8, 16, 24))
 
@@ -18,14 +19,6 @@ def row_bridge(stones):
 
 def row_yard(stones, hoist=None):
     return Yard(row_bridge(stones), tuple(range(stones + 1)), hoist)
-
-
-def all_stages(stones):
-    """All stages of a yard of so many stones."""
-    laid = [(left, right) for left in range(stones + 1) for right in range(stones + 1)
-            if left + right < stones or (left, right) == (stones, 0)]
-    frames = [some for size in range(stones + 1) for some in itertools.combinations(range(stones), size)]
-    return [(left, right, some) for left, right in laid for some in frames]
 
 
 class YardTest(unittest.TestCase):
