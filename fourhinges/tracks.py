@@ -19,9 +19,9 @@ class Track:
         self._allowed = {x: [stone for stone in road.stones_at(x) if stone is None or stone in laid]
                          for x in range(low, top + 1)}
         # Further on all wheels are on the ground, as if the hoist were away.
-        self._fronts = [front for front in range(low, top + yard.hoist.length + 1) if self._is_open(front)]
+        self._fronts = [front for front in range(low, top + yard.hoist.length + 1) if self._finds_places(front)]
 
-    def _is_open(self, front):
+    def _finds_places(self, front):
         return all([self.choices(x) for x in wheel_places(self._cart, front, HOIST_WAY)])
 
     def choices(self, x):

@@ -11,8 +11,8 @@ from fourhinges.motions import Motion
 from fourhinges.stands import bears, stands
 from fourhinges.through import through
 from fourhinges.thrust import Thrust, first_barred, touched
-from fourhinges.weights import Weights, motion_of, stone_motions
-from tests.samples import (E, F, HUGE, WALL, arch, borne_load, misses, random_bridge, random_force, random_load,
+from fourhinges.weights import Weights, stone_motions
+from tests.samples import (E, F, WALL, arch, borne_load, misses, random_bridge, random_force, random_load,
                            small_bridges)
 from tests.seconds import can_be_met, corner_demands, is_borne, without_equal
 from tests.test_limits import ACROSS, random_motion

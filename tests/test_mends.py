@@ -11,7 +11,7 @@ from fourhinges.road import Road
 from fourhinges.traffic import Safe, Unsafe, is_safe, verdict
 from fourhinges.trafficjudge import verdict_fault
 from tests.crowds import tiny_pair
-from tests.roads import DRAY, R, SINGLE
+from tests.roads import R, SINGLE
 from tests.samples import E, WALL
 from tests.test_changes import random_change
 

@@ -4,11 +4,8 @@ import unittest
 
 from fourhinges.bridge import Bridge
 from fourhinges.carts import Cart
-from fourhinges.forces import Force
-from fourhinges.loads import Load
 from fourhinges.orders import ClosedLot, Order, build_order, fewest_frames, order_fault
 from fourhinges.stages import stage_fall, stage_steps
-from fourhinges.stands import bears
 from fourhinges.yard import Yard
 from tests.samples import E, F, arch
 from tests.yards import all_stages, random_yard, second_stands

@@ -1,12 +1,11 @@
 import random
-import unittest
 
 from fourhinges.carts import Cart
 from fourhinges.errors import BadCart, BadRoad, BadRule
 from fourhinges.road import Road
 from fourhinges.roadtext import read_road, road_text
 from fourhinges.rules import Rule
-from tests.roads import DRAY, R, SINGLE, TURNS, random_road
+from tests.roads import R, SINGLE, TURNS, random_road
 from tests.test_bridgetext import NO_NUMBERS, TextCase
 
 TEXT = ("road -3 0 9\nlane 1\ncart van 4 0 2 3 5\ncart gig 1 1 3\nstep 0 van 2 1\nstep 1 gig 1 0\n"

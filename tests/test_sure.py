@@ -3,7 +3,7 @@ import unittest
 from fractions import Fraction
 
 from fourhinges.errors import NotSafe, OtherSize
-from fourhinges.greatest import Endless, Greatest, greatest, greatest_fault
+from fourhinges.greatest import Endless, greatest, greatest_fault
 from fourhinges.limitedtraffic import LimitedSafe, limited_verdict
 from fourhinges.limits import Limit
 from fourhinges.motions import Motion
@@ -78,7 +78,8 @@ class SureTest(unittest.TestCase):
     def test_no_motion(self):
         answer = self.check(E, QUIET, Motion.none())
         self.assertEqual((answer.amount, answer.weights, answer.parts), ((0, 1), Weights((0,) * 8), 1))
-        self.assertEqual(self.check(HEAVY, BOTH, Motion.none() * 5).amount, (0, 1)) if is_safe(HEAVY, BOTH) else None
+        answer = sure(HEAVY, BOTH, Motion.none())
+        self.assertEqual((answer.amount, answer.parts, scene_fault(BOTH, answer.scene)), ((0, 1), 1, None))
 
     def test_long_carts(self):
         for motion in (ACROSS, Motion(0, -2, 3), Motion(3, 1, 0)):
