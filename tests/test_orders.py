@@ -4,6 +4,8 @@ import unittest
 
 from fourhinges.bridge import Bridge
 from fourhinges.carts import Cart
+from fourhinges.forces import Force
+from fourhinges.loads import Load
 from fourhinges.orders import ClosedLot, Order, build_order, fewest_frames, order_fault
 from fourhinges.stages import stage_fall, stage_steps
 from fourhinges.yard import Yard
@@ -123,6 +125,16 @@ class OrderFaultTest(unittest.TestCase):
         falling = Yard(E.with_own(-E.own), (0, 8, 16, 24))
         steps = tuple(("frame", at) for at in range(3)) + (("lay", "left"),) * 3 + tuple(("strike", at) for at in range(3))
         self.assertEqual(self.judged(steps, 3, falling), "falls")
+
+    def test_a_span_that_falls_once_other_stones_are_laid(self):
+        # The heavy wheel gets to the end of the span only if the other one finds a stone beyond the gap.
+        joints = [((x, 0), (x, 2)) for x in (0, 4, 8, 12)]
+        right = Bridge(joints, Load((Force.acting(-20, -1, (2, 1)), Force.none(), Force.none())))
+        left = Bridge(joints, Load((Force.none(), Force.none(), Force.acting(20, -1, (10, 1)))))
+        for bridge, wheels, steps in ((right, ((0, 1), (6, 5)), (("lay", "left"), ("frame", 2), ("lay", "right"))),
+                                      (left, ((0, 5), (6, 1)), (("lay", "right"), ("frame", 0), ("lay", "left")))):
+            yard = Yard(bridge, (0, 4, 8, 12), Cart("hoist", wheels, 6))
+            self.assertEqual([self.judged(steps[:count], 3, yard) for count in range(4)], ["end"] * 3 + ["falls"])
 
     def test_end(self):
         self.assertEqual(self.judged(()), "end")
